@@ -25,62 +25,65 @@ const (
 	lastGoingOn  = 0xbf
 )
 
-// pen writes to a terminal that is set so, and stands at a column, which is always one that there is.
+// pen writes to a terminal that is set so: it stands at a column, which is always one that there is, and knows what went out.
+//
+// What changes it answers nothing, so that no statement can ask the pen and change it in one: Go leaves open which of both comes first.
 type pen struct {
 	t   api.Termios
 	col int
+	out []byte
 }
 
 // at is a pen at a column.
 func at(t api.Termios, col int) pen { return pen{t: t, col: inside(col)} }
 
-// write is what goes out of a byte.
-func (p *pen) write(c byte) []byte {
+// write has a byte go out, as what the setting makes of it.
+func (p *pen) write(c byte) {
 	switch {
 	case !p.has(api.OPOST):
-		return p.put(c)
+		p.put(c)
 	case c == newline:
-		return p.endLine()
+		p.endLine()
 	case c == enter:
-		return p.goBack()
+		p.goBack()
 	case isSmall(c) && p.has(api.OLCUC):
-		return p.put(c - 'a' + 'A')
+		p.put(c - 'a' + 'A')
+	default:
+		p.put(c)
 	}
-	return p.put(c)
 }
 
-// put is a byte that goes out as it is.
-func (p *pen) put(c byte) []byte {
+// put has a byte go out as it is.
+func (p *pen) put(c byte) {
+	p.out = append(p.out, c)
 	p.move(c)
-	return []byte{c}
 }
 
-// endLine is what goes out of a newline.
-func (p *pen) endLine() []byte {
+// endLine has a newline go out, behind an enter where that is asked.
+func (p *pen) endLine() {
 	if p.has(api.ONLCR) {
-		p.col = 0
-		return []byte{enter, newline}
+		p.put(enter)
 	}
-	return p.feed()
+	p.feed()
 }
 
-// goBack is what goes out of an enter.
-func (p *pen) goBack() []byte {
+// goBack has an enter go out, or what is asked for one.
+func (p *pen) goBack() {
 	switch {
-	case p.col == 0 && p.has(api.ONOCR):
-		return nil
+	case p.col == 0 && p.has(api.ONOCR): // nothing goes out
 	case p.has(api.OCRNL):
-		return p.feed() // ONLCR isn't asked: what was turned isn't turned again
+		p.feed() // ONLCR isn't asked: what was turned isn't turned again
+	default:
+		p.put(enter)
 	}
-	return p.put(enter)
 }
 
-// feed is a newline that goes out alone.
-func (p *pen) feed() []byte {
+// feed has a newline go out alone.
+func (p *pen) feed() {
+	p.put(newline)
 	if p.has(api.ONLRET) {
 		p.col = 0
 	}
-	return []byte{newline}
 }
 
 // move has the column moved by a byte that goes out.
