@@ -86,10 +86,11 @@ func (d *Disc) kill(c byte) {
 		d.echo(echo.Rub(d.T, d.From, nil, gone))
 		return
 	}
-	d.echo(echo.Show(d.T, c))
+	shown := echo.Show(d.T, c)
 	if d.has(api.ECHOK) {
-		d.echo([]byte{newline})
+		shown = append(shown, newline)
 	}
+	d.echo(shown) // at once: where there is no room for all of it, all of it is lost
 }
 
 // reprint shows the line anew.

@@ -412,7 +412,7 @@ func TestFullOut(t *testing.T) {
 	}{
 		{u, 1, "a", "a", 3}, {u, 0, "a", "", 2}, {u, 1, "ab", "a", 3}, {u, 2, "\n", "\r\n", 0}, {u, 1, "\n", "", 2}, {u, 1, "\n\na", "a", 3}, {u, 2, "\x01", "^A", 4}, {u, 1, "\x01", "", 2}, {u, 1, "\x01a", "a", 3},
 		{u, 4, "a\x7f", "a\b \b", 2}, {u, 3, "a\x7f", "a", 3}, {u, 3, "\x16", "^\b", 2}, {u, 1, "\x16", "", 2}, {u, 6, "ab\x12", "ab^R\r\n", 0}, {u, 5, "ab\x12", "abab", 6}, {u, 3, "ab\x12", "ab", 4}, {u, 7, "ab\x12", "ab^R\r\n", 0}, {u, 8, "ab\x12", "ab^R\r\nab", 2},
-		{noKill, 6, "ab\x15", "ab^U\r\n", 0}, {noKill, 5, "ab\x15", "ab^U", 6}, {noKill, 3, "ab\x15", "ab", 4}, {u, 8, "ab\x15", "ab\b \b\b \b", 2}, {u, 7, "ab\x15", "ab", 4}, {with(without(u, api.ECHO), api.ECHONL), 1, "\n", "", 2}, {with(without(u, api.ECHO), api.ECHONL), 2, "\n", "\r\n", 0},
+		{noKill, 6, "ab\x15", "ab^U\r\n", 0}, {noKill, 5, "ab\x15", "ab", 4}, {noKill, 3, "ab\x15", "ab", 4}, {u, 8, "ab\x15", "ab\b \b\b \b", 2}, {u, 7, "ab\x15", "ab", 4}, {with(without(u, api.ECHO), api.ECHONL), 1, "\n", "", 2}, {with(without(u, api.ECHO), api.ECHONL), 2, "\n", "\r\n", 0},
 		{u, -1, "a\n\x7f\x12", "", 2}, {u, -9, "a", "", 2}, {without(u, api.OPOST), 1, "\n", "\n", 2},
 	} {
 		d := ldisc.New(x.t)
@@ -429,6 +429,34 @@ func TestFullOut(t *testing.T) {
 		types(d, "abc")
 		if string(d.Out[mostOutput-room:]) != want || d.Col != 5 {
 			t.Errorf("room for %d bells: %q, column %d", room, d.Out[mostOutput-room:], d.Col)
+		}
+	}
+}
+
+// P16.1, step 8: Show of VKILL and the byte 10 behind it are one echo, which goes out whole or not at all; the line is gone in either case.
+func TestFullOutOfKill(t *testing.T) {
+	u := usual()
+	noKill, wipes := without(u, api.ECHOKE), without(u, api.ECHOE)
+	noEnd := without(noKill, api.ECHOK)
+	for _, x := range []struct {
+		t     api.Termios
+		whole string
+		col   int
+	}{
+		{noKill, "^U\r\n", 0}, {wipes, "^U\r\n", 0}, {without(noKill, api.OPOST), "^U\n", 11}, {without(noKill, api.ECHOCTL), "\x15\r\n", 0}, {noEnd, "^U", 11}, {without(wipes, api.ECHOK), "^U", 11}, {char(noKill, api.VKILL, 'k'), "k\r\n", 0}, {char(noEnd, api.VKILL, 'k'), "k", 10}, {without(noKill, api.ECHO), "", 9},
+	} {
+		for room := range 8 {
+			d := ldisc.New(x.t)
+			ahead := of(mostOutput - room)
+			d.Line, d.Out, d.Col = []byte("ab"), []byte(ahead), 9
+			d.Input(x.t.Chars[api.VKILL])
+			out, col := x.whole, x.col
+			if room < len(x.whole) {
+				out, col = "", 9
+			}
+			if string(d.Out) != ahead+out || d.Col != col || len(d.Line) != 0 {
+				t.Errorf("flags %x: room for %d: out %q, column %d, line %q, not %q, %d", x.t.Flags, room, d.Out[len(ahead):], d.Col, d.Line, out, col)
+			}
 		}
 	}
 }

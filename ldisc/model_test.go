@@ -197,10 +197,11 @@ func (m *model) lineSteps(c byte) {
 		if m.on(api.ECHOE) && m.on(api.ECHOKE) {
 			m.echoed(echo.Rub(m.T, m.From, nil, line))
 		} else {
-			m.echoed(echo.Show(m.T, c))
+			shown := echo.Show(m.T, c)
 			if m.on(api.ECHOK) {
-				m.echoed([]byte{10})
+				shown = slices.Concat(shown, []byte{10})
 			}
+			m.echoed(shown)
 		}
 	} else if more && m.is(api.VREPRINT, c) {
 		m.echoed(slices.Concat(echo.Show(m.T, c), []byte{10}))
